@@ -1,0 +1,1 @@
+"""Quirehand: texts set into pages."""
