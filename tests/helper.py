@@ -47,6 +47,19 @@ def things():
     ]
 
 
+def good_rules(**others):
+    rules = {
+        "width": 60, "height": 20, "part": 50, "twin": 100, "lone": 200, "late": 300, "over": 1000,
+        "gap": 1, "ahead": 2, "behind": 3,
+    }
+    rules.update(others)
+    return rules
+
+
+def words(many, word="a"):
+    return (word,) * many
+
+
 def refused(case, kind, ask, *handed):
     """Of the ten classes just this one, and no error of Python's own."""
     try:

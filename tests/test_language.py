@@ -107,6 +107,66 @@ def nodes_of(kind):
     return nodes
 
 
+def with_parents(name):
+    """Each node of a file's tree with the nodes above it, the nearest one first."""
+    pairs = []
+
+    def walk(node, above):
+        pairs.append((node, above))
+        for child in ast.iter_child_nodes(node):
+            walk(child, [node] + above)
+
+    walk(tree_of(name), [])
+    return pairs
+
+
+def called(node):
+    """The name of what a call calls, with a point ahead of it where it is a method; None of other nodes."""
+    if not isinstance(node, ast.Call):
+        return None
+    if isinstance(node.func, ast.Name):
+        return node.func.id
+    if isinstance(node.func, ast.Attribute):
+        return "." + node.func.attr
+    return None
+
+
+def is_walked_at_once(node, parent):
+    if isinstance(parent, (ast.For, ast.comprehension)):
+        return parent.iter is node
+    if called(parent) in ("list", "tuple", "dict", "sorted", "sum", "any", "all", "enumerate", "zip"):
+        return parent.args[0] is node
+    if called(parent) in ("min", "max"):
+        return parent.args == [node]
+    return called(parent) == ".join" and isinstance(parent.func.value, ast.Constant)
+
+
+def is_set_in_place(parents):
+    for parent in parents:
+        if isinstance(parent, ast.Compare):
+            return all([isinstance(sign, (ast.In, ast.NotIn, ast.Eq, ast.NotEq)) for sign in parent.ops])
+        if called(parent) in ("sorted", "len"):
+            return parent.keywords == []
+        if not isinstance(parent, ast.BinOp):
+            return False
+    return False
+
+
+def locals_of(tree):
+    """Each name that is given a meaning below the file's top, as a parameter, a local or in a walk."""
+    names = []
+    for part in tree.body:
+        if isinstance(part, (ast.FunctionDef, ast.ClassDef)):
+            for node in ast.walk(part):
+                if isinstance(node, ast.arg):
+                    names.append(node.arg)
+                elif isinstance(node, ast.Name) and isinstance(node.ctx, ast.Store):
+                    names.append(node.id)
+                elif isinstance(node, ast.ExceptHandler) and node.name:
+                    names.append(node.name)
+    return names
+
+
 class LanguageTest(unittest.TestCase):
     def test_files(self):
         self.assertIn("__init__.py", package_files())
@@ -234,6 +294,65 @@ class LanguageTest(unittest.TestCase):
                 self.assertNotIn(node.attr, UNUSED_NAMES)
                 if any([hasattr(kind, node.attr) for kind in PYTHONS_VALUES]):
                     self.assertIn(node.attr, OWN_METHODS | {"__init__"})
+
+    def test_methods_are_called_where_they_stand(self):
+        for name in package_files():
+            methods = OWN_METHODS | set(
+                [part.name for kind in tree_of(name).body if isinstance(kind, ast.ClassDef) for part in kind.body
+                 if isinstance(part, ast.FunctionDef)])
+            for node, parents in with_parents(name):
+                if isinstance(node, ast.Attribute) and node.attr in methods:
+                    with self.subTest(file=name, line=node.lineno):
+                        self.assertIsInstance(parents[0], ast.Call)
+                        self.assertIs(parents[0].func, node)
+
+    def test_locals_are_not_called_like_classes_or_imports(self):
+        for name in package_files():
+            tree = tree_of(name)
+            taken = [part.name for node in imports_of(tree) for part in node.names]
+            taken += [node.name for node in tree.body if isinstance(node, ast.ClassDef)]
+            with self.subTest(file=name):
+                self.assertEqual(set(locals_of(tree)) & set(taken), set())
+
+    def test_no_name_is_a_method_here_and_a_value_there(self):
+        methods = set()
+        for place, node in nodes_of(ast.ClassDef):
+            names = [part.name for part in node.body if isinstance(part, ast.FunctionDef)]
+            self.assertEqual(len(names), len(set(names)), place)
+            methods |= set(names)
+        values = [node.attr for place, node in nodes_of(ast.Attribute) if isinstance(node.ctx, ast.Store)]
+        self.assertEqual(methods & set(values), set())
+        for value in values:
+            self.assertFalse(any([hasattr(kind, value) for kind in PYTHONS_VALUES]), value)
+
+    def test_walked_at_once(self):
+        for name in package_files():
+            for node, parents in with_parents(name):
+                if called(node) in ("zip", "enumerate", "reversed", "range", ".items", ".keys", ".values"):
+                    with self.subTest(file=name, line=node.lineno):
+                        self.assertTrue(is_walked_at_once(node, parents[0]))
+
+    def test_sets_are_not_kept(self):
+        for name in package_files():
+            for node, parents in with_parents(name):
+                if isinstance(node, ast.Set) or called(node) in ("set", "frozenset"):
+                    with self.subTest(file=name, line=node.lineno):
+                        self.assertTrue(is_set_in_place(parents))
+
+    def test_keywords(self):
+        good = {
+            "sorted": ("key", "reverse"), "min": ("key", "default"), "max": ("key", "default"), "sum": ("start",),
+            "enumerate": ("start",), "zip": ("strict",),
+        }
+        for place, node in nodes_of(ast.Call):
+            with self.subTest(place=place):
+                for part in node.keywords:
+                    self.assertIn(part.arg, good.get(called(node), ()))
+
+    def test_an_assignment_gives_one_name(self):
+        for place, node in nodes_of(ast.Assign):
+            with self.subTest(place=place):
+                self.assertIsInstance(node.targets[0], (ast.Name, ast.Attribute, ast.Subscript))
 
     def test_values(self):
         for place, node in nodes_of(ast.Constant):

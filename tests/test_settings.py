@@ -6,7 +6,7 @@ import unittest
 
 from quirehand.errors import BadRules
 from quirehand.settings import need_rules
-from helper import Stubborn, in_itself, refused, things
+from helper import Stubborn, good_rules, in_itself, refused, things
 
 BOUNDS = {
     "width": (4, 2000), "height": (2, 200), "part": (0, 100000), "twin": (0, 100000), "lone": (0, 100000),
@@ -17,21 +17,14 @@ NO_NUMBERS = [
 ]
 
 
-def good():
-    return {
-        "width": 60, "height": 20, "part": 50, "twin": 100, "lone": 200, "late": 300, "over": 1000,
-        "gap": 1, "ahead": 2, "behind": 3,
-    }
-
-
 def good_with(key, number):
-    rules = good()
+    rules = good_rules()
     rules[key] = number
     return rules
 
 
 def good_without(key):
-    rules = good()
+    rules = good_rules()
     del rules[key]
     return rules
 
@@ -42,14 +35,14 @@ class RulesTest(unittest.TestCase):
             refused(self, BadRules, need_rules, rules)
 
     def test_good_rules(self):
-        self.assertIs(need_rules(good()), True)
+        self.assertIs(need_rules(good_rules()), True)
 
     def test_all_at_their_least_and_all_at_their_greatest(self):
         self.assertIs(need_rules({key: least for key, (least, most) in BOUNDS.items()}), True)
         self.assertIs(need_rules({key: most for key, (least, most) in BOUNDS.items()}), True)
 
     def test_the_order_of_the_keys_is_free(self):
-        self.assertIs(need_rules(dict(reversed(good().items()))), True)
+        self.assertIs(need_rules(dict(reversed(good_rules().items()))), True)
 
     def test_each_key_at_its_bounds_and_just_within(self):
         for key, (least, most) in BOUNDS.items():
@@ -85,14 +78,14 @@ class RulesTest(unittest.TestCase):
                 self.refuse(good_with(key, thing), f"{key}: {at}")
 
     def test_what_is_no_dict_is_refused(self):
-        self.refuse(list(good().items()), "a list of pairs")
-        self.refuse(tuple(good().items()), "a tuple of pairs")
-        self.refuse(good().items(), "the pairs of a dict")
-        self.refuse(list(good()), "a list of the keys")
-        self.refuse(set(good()), "a set of the keys")
-        self.refuse(" ".join(good()), "a text of the keys")
+        self.refuse(list(good_rules().items()), "a list of pairs")
+        self.refuse(tuple(good_rules().items()), "a tuple of pairs")
+        self.refuse(good_rules().items(), "the pairs of a dict")
+        self.refuse(list(good_rules()), "a list of the keys")
+        self.refuse(set(good_rules()), "a set of the keys")
+        self.refuse(" ".join(good_rules()), "a text of the keys")
         self.refuse("", "the empty text")
-        self.refuse([good()], "a list of rules")
+        self.refuse([good_rules()], "a list of rules")
 
     def test_any_thing_may_be_refused(self):
         for name, thing in things():
@@ -100,9 +93,9 @@ class RulesTest(unittest.TestCase):
             self.refuse({"width": thing}, f"{name} for the width alone")
 
     def test_good_rules_stay_as_they_were(self):
-        rules = good()
+        rules = good_rules()
         need_rules(rules)
-        self.assertEqual(list(rules.items()), list(good().items()))
+        self.assertEqual(list(rules.items()), list(good_rules().items()))
 
     def test_bad_rules_stay_as_they_were(self):
         bad = [
@@ -123,7 +116,7 @@ class RulesTest(unittest.TestCase):
         self.assertEqual(len(rules), 10)
 
     def test_rules_that_are_changed_later_are_asked_anew(self):
-        rules = good()
+        rules = good_rules()
         self.assertIs(need_rules(rules), True)
         rules["width"] = 3
         self.refuse(rules, "changed to bad ones")
