@@ -56,6 +56,31 @@ def good_rules(**others):
     return rules
 
 
+def good_lay(**others):
+    lay = {"width": 10, "part": 7, "twin": 5, "over": 100, "blank": 1, "dash": 1}
+    lay.update(others)
+    return lay
+
+
+def row_of(*widths_and_joins):
+    """A row of pieces: (5, "part") is a piece of width 5; the last one's join is made "blank"."""
+    parts = [part if isinstance(part, tuple) else (part, "blank") for part in widths_and_joins]
+    parts[-1] = (parts[-1][0], "blank")
+    return [(LETTERS[at % 52] * max(1, width // 2), width, join) for at, (width, join) in enumerate(parts)]
+
+
+def row_by_chance(chance, most, widest=8):
+    return row_of(*[
+        (chance.randint(1, widest), chance.choice(["blank", "blank", "part", "part", "soft"]))
+        for _ in range(chance.randint(1, most))])
+
+
+def lay_by_chance(chance):
+    return good_lay(
+        width=chance.randint(1, 20), part=chance.choice([0, 1, 7, 30]), twin=chance.choice([0, 1, 5, 40]),
+        over=chance.choice([1, 3, 100]), blank=chance.randint(1, 3), dash=chance.randint(1, 4))
+
+
 def words(many, word="a"):
     return (word,) * many
 
