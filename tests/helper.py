@@ -56,6 +56,11 @@ def good_rules(**others):
     return rules
 
 
+def face_by_chance(chance):
+    odd = [(sign, chance.randint(1, 20)) for sign in sorted("aim-.(1") if chance.random() < 0.5]
+    return (chance.randint(1, 20), chance.randint(1, 20), tuple(sorted(odd)))
+
+
 def good_lay(**others):
     lay = {"width": 10, "part": 7, "twin": 5, "over": 100, "blank": 1, "dash": 1}
     lay.update(others)
