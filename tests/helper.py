@@ -86,6 +86,45 @@ def lay_by_chance(chance):
         over=chance.choice([1, 3, 100]), blank=chance.randint(1, 3), dash=chance.randint(1, 4))
 
 
+def strips_by_chance(chance, most, most_marks, cuts=("never", "must", 0, 0, 0, 7)):
+    """Strips and the heights of their notes."""
+    strips, marks = [], 0
+    for at in range(chance.randint(1, most)):
+        many = min(most_marks - marks, chance.choice([0, 0, 0, 1, 1, 2, 3]))
+        marks += many
+        strips.append((chance.choice([0, 0, 1]) if at else 0, chance.choice([1, 1, 1, 2, 4]), chance.choice(cuts), many))
+    strips[-1] = strips[-1][:2] + (0,) + strips[-1][3:]
+    return strips, [chance.choice([1, 1, 2, 3]) for _ in range(marks)]
+
+
+def plain_may_end(strips, begin, end):
+    cuts = [strip[2] for strip in strips[begin:end]]
+    return cuts[-1] != "never" and "must" not in cuts[:-1]
+
+
+def plain_leaf_cost(strips, heights, rules, begin, end, ahead, late):
+    """As points 21 to 23 say it; None where it is no leaf."""
+    last = end == len(strips)
+    owners = [at for at, strip in enumerate(strips) for _ in range(strip[3])]
+    own = [note for note, at in enumerate(owners) if begin <= at < end]
+    if not plain_may_end(strips, begin, end) or late > len(own) or (last and late):
+        return None
+    before = [note for note, at in enumerate(owners) if at < begin]
+    foot = before[len(before) - ahead:] + own[:len(own) - late]
+    height = sum([strip[1] for strip in strips[begin:end]]) + sum([strip[0] for strip in strips[begin + 1:end]])
+    height += 1 + sum([heights[note] for note in foot]) if foot else 0
+    lesser = [at for at in range(begin + 1, end) if plain_may_end(strips, begin, at)]
+    if height > rules["height"] and (lesser or not (last or late == len(own))):
+        return None
+    cut = strips[end - 1][2]
+    price = late * rules["late"]
+    if height > rules["height"]:
+        price += rules["over"] * (height - rules["height"])
+    elif not last and cut != "must":
+        price += (rules["height"] - height) ** 2
+    return price + (cut if not last and isinstance(cut, int) else 0)
+
+
 def words(many, word="a"):
     return (word,) * many
 
