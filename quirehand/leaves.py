@@ -69,3 +69,15 @@ def leaf_cost(strips, heights, rules, begin, end, ahead, late):
     if late > most_late(strips, end, own):
         return None
     return cost_at(strips, rules, begin, end, own, late, height_of(strips, heights, begin, end, ahead, late))
+
+
+# Each leaf of a filling: its begin and end, how many notes are put off to it, and how many it puts off.
+def spans(leaves):
+    told = []
+    begin = 0
+    ahead = 0
+    for end, late in leaves:
+        told.append((begin, end, ahead, late))
+        begin = end
+        ahead = late
+    return told

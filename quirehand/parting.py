@@ -2,7 +2,7 @@
 
 from quirehand.errors import BadWord
 from quirehand.faces import is_sign
-from quirehand.joints import SMALL, telling
+from quirehand.joints import SMALL, letters_of, telling
 
 MOST_SIGNS = 40
 
@@ -60,9 +60,16 @@ def join_at(book, rules, word, place):
     return None
 
 
+# Most joints have letters that stand nowhere in the word, and needn't be asked at each of its places.
+def joints_within(book, word):
+    small = word.lower()
+    return [joint for joint in book if letters_of(joint) in small]
+
+
 def places(book, rules, word):
     need_word(word)
-    joins = [(place, join_at(book, rules, word, place)) for place in range(1, len(word))]
+    own = joints_within(book, word)
+    joins = [(place, join_at(own, rules, word, place)) for place in range(1, len(word))]
     return [(place, join) for place, join in joins if join is not None]
 
 

@@ -41,19 +41,19 @@ def table_rows(face, rules, table):
     return rows
 
 
-def paragraph_rows(face, book, rules, pairs, marks):
-    pieces = pieces_of(face, book, rules, pairs)
-    lay = lay_of(face, rules)
-    return line_rows(pieces, lay, broken(pieces, lay), marks)
+# The rows of a block whose pieces and breaks are known; a table and a leaf have none of these.
+def block_rows(face, rules, block, pieces, breaks):
+    if block[0] == "table":
+        return table_rows(face, rules, block[1])
+    return line_rows(pieces, lay_of(face, rules), breaks, marks_of(block))
 
 
 def rows_of(face, book, rules, block, pairs):
-    if block[0] == "leaf":
-        return []
-    if block[0] == "table":
-        return table_rows(face, rules, block[1])
-    return paragraph_rows(face, book, rules, pairs, marks_of(block))
+    pieces = pieces_of(face, book, rules, pairs)
+    return block_rows(face, rules, block, pieces, broken(pieces, lay_of(face, rules)))
 
 
 def note_rows(face, book, rules, number, note):
-    return paragraph_rows(face, book, rules, note_pairs(number, note), [])
+    pieces = pieces_of(face, book, rules, note_pairs(number, note))
+    lay = lay_of(face, rules)
+    return line_rows(pieces, lay, broken(pieces, lay), [])

@@ -29,8 +29,6 @@ def spare_of(pieces, lay, begin, end):
 
 # How much each gap between runs has beside its blank.
 def shares(spare, gaps):
-    if gaps == 0:
-        return []
     return [spare // gaps + (1 if gap < spare % gaps else 0) for gap in range(gaps)]
 
 

@@ -1,6 +1,7 @@
 """What several tests need: the signs, good rules, things of all kinds, and how a refusal is asked for."""
 
 from quirehand import errors
+from quirehand.writing import written
 
 LETTERS = "abcdefghijklmnopqrstuvwxyzABCDEFGHIJKLMNOPQRSTUVWXYZ"
 SIGNS = list(LETTERS) + list("0123456789") + [".", ",", ";", ":", "!", "?", "'", '"', "(", ")", "-", "/"]
@@ -127,6 +128,34 @@ def plain_leaf_cost(strips, heights, rules, begin, end, ahead, late):
 
 def words(many, word="a"):
     return (word,) * many
+
+
+def block_by_chance(chance, notes=True):
+    kind = chance.choice(["head", "text", "text", "text", "table", "leaf"])
+
+    def some(least, most):
+        return tuple([
+            "".join([chance.choice("aabbnt-") for _ in range(chance.randint(1, 6))]) for _ in range(chance.randint(least, most))])
+
+    if kind == "head":
+        return (kind, some(1, 4))
+    if kind == "text":
+        many = [chance.choice([0, 0, 0, 0, 0, 1, 1, 2]) if notes else 0 for _ in range(chance.randint(1, 14))]
+        return (kind, tuple([(some(1, 1)[0], tuple([some(1, 6) for _ in range(each)])) for each in many]))
+    if kind == "table":
+        cells = chance.randint(1, 2)
+        return (kind, tuple([tuple([some(0, 3) for _ in range(cells)]) for _ in range(chance.randint(1, 3))]))
+    return (kind,)
+
+
+def text_by_chance(chance):
+    """A text, rules and a face by which none of its tables is too wide."""
+    blocks = [block_by_chance(chance) for _ in range(chance.randint(0, 7))]
+    rules = good_rules(
+        width=chance.randint(30, 60), height=chance.randint(2, 12), part=chance.choice([0, 5, 50]),
+        twin=chance.choice([0, 9]), lone=chance.choice([0, 10, 200]), late=chance.choice([0, 20, 300]),
+        over=chance.choice([1, 50]), gap=chance.randint(0, 2), ahead=1, behind=1)
+    return written(blocks), rules, (chance.randint(1, 2), chance.randint(1, 2), (("a", 1), ("b", 2)))
 
 
 def refused(case, kind, ask, *handed):

@@ -61,6 +61,10 @@ class HeightTest(unittest.TestCase):
         self.assertEqual(height_of(self.strips, self.heights, 3, 4, 3, 1), 4 + 1 + 4 + 8 + 16)
         self.assertEqual(height_of(self.strips, self.heights, 3, 4, 5, 0), 4 + 1 + 63)
 
+    def test_more_put_off_to_it_than_there_are(self):
+        self.assertEqual(height_of(self.strips, self.heights, 1, 2, 3, 0), 2 + 1 + 1 + 2)
+        self.assertEqual(height_of(self.strips, self.heights, 0, 1, 2, 1), 1 + 1 + 1)
+
     def test_no_notes_at_the_foot(self):
         self.assertEqual(height_of([(0, 1, 0, 0)], [], 0, 1, 0, 0), 1)
         self.assertEqual(height_of(self.strips, self.heights, 1, 3, 0, 3), 2 + 1 + 1)
@@ -168,6 +172,11 @@ class LeafCostTest(unittest.TestCase):
         self.assertIsNone(self.cost(strips, 1, 2, 2, 0, heights))
         self.assertIsNone(self.cost(strips, 1, 3, 2, 1, heights))
         self.assertEqual(self.cost(strips, 1, 2, 1, 1, heights), 300 + 20)
+
+    def test_no_leaf_has_no_cost(self):
+        strips = [(0, 1, 0, 0), (0, 1, 0, 0)]
+        for begin, end in [(1, 1), (0, 0), (1, 0), (2, 2), (0, 3), (2, 3), (-1, 1), (-1, 0)]:
+            self.assertIsNone(self.cost(strips, begin, end))
 
     def test_by_chance(self):
         chance = random.Random(22)
